@@ -1,0 +1,1 @@
+"""Askshanded: asks handed at once to one of several services."""
