@@ -151,7 +151,7 @@ class MachineErrorsTest(unittest.TestCase):
     def test_number_of_different_steps(self):
         self.assertEqual(len(Machine(200, [], many_steps(600)).steps), 600)
         self.assertEqual(len(Machine(200, [], many_steps(600) + many_steps(600)).steps), 600)
-        self.assert_refused(TooLarge, 601, 202 - 2, [], many_steps(600) + [(199, "zz", 199)])
+        self.assert_refused(TooLarge, 601, 200, [], many_steps(600) + [(199, "zz", 199)])
         self.assert_refused(TooLarge, 601, 200, [], (many_steps(600) + [(199, "zz", 199)]) * 2)
 
     def test_present_state(self):
