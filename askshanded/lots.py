@@ -33,6 +33,14 @@ class Lot:
             raise BadState(states)
         self.states = tuple(states)
 
+    def moves_at(self, states):
+        """What the lot can take in a tuple of states: pairs of an ask and the tuple of states behind it."""
+        return [
+            (ask, replaced(states, number, end))
+            for number, service in enumerate(self.services)
+            for ask, end in service.pairs_at(states[number])
+        ]
+
     def __getitem__(self, at):
         check_number(self, at)
         if self.states[at] == AWAY:
@@ -83,7 +91,7 @@ class LotDuel:
             return [[]]
         return [
             [[(after, behind) for behind in afters] for afters in takings(self.second, theirs, ask)]
-            for ask, after in moves_from(self.first, mine)
+            for ask, after in self.first.moves_at(mine)
         ]
 
 
@@ -125,13 +133,10 @@ class Joint(Service, Pattern):
 
     def __init__(self, lot):
         check_single_ends(lot)
-        moves = reached_moves(lot)
-        names = list(moves)
-        numbers = {name: number for number, name in enumerate(names)}
-        marks = [numbers[name] for name in names if rests(lot, name)]
-        steps = [(numbers[name], ask, numbers[after]) for name in names for ask, after in moves[name]]
-        super().__init__(len(names), marks, steps)
-        self.names = tuple(names)
+        moves = reached_moves(lot, lot.states)
+        marks = [number for number, name in enumerate(moves) if rests(lot, name)]
+        super().__init__(len(moves), marks, numbered_steps(moves))
+        self.names = tuple(moves)
         self._lot = lot + Lot()
 
     def twin(self, now):
@@ -169,15 +174,6 @@ def replaced(row, at, worth):
     return (*row[:at], worth, *row[at + 1:])
 
 
-def moves_from(lot, states):
-    """What the lot can take in a tuple of states: pairs of an ask and the tuple of states behind it."""
-    return [
-        (ask, replaced(states, number, end))
-        for number, service in enumerate(lot.services)
-        for ask, end in service.pairs_at(states[number])
-    ]
-
-
 def takings(lot, states, ask):
     """For each service that takes the ask in a tuple of states, the list of the tuples behind its ends."""
     return [
@@ -187,16 +183,25 @@ def takings(lot, states, ask):
     ]
 
 
-def reached_moves(lot):
-    """The moves from each tuple of states that is reached from the present one, which comes first."""
+def reached_moves(walk, start):
+    """The moves at each place that is reached from `start`, which comes first.
+
+    A walk has `moves_at(place)`: a list of pairs of an ask and the place behind it.
+    """
     moves = {}
-    found = [lot.states]
+    found = [start]
     while found:
-        states = found.pop()
-        if states not in moves:
-            moves[states] = moves_from(lot, states)
-            found.extend([after for ask, after in moves[states]])
-        # A lot can reach 200 to the power of 5 tuples: stop where no machine can have them any more.
+        place = found.pop()
+        if place not in moves:
+            moves[place] = walk.moves_at(place)
+            found.extend([after for ask, after in moves[place]])
+        # A lot alone can reach 200 to the power of 5 tuples: stop where no machine can have them any more.
         if len(moves) > MOST_STATES:
             raise TooLarge(len(moves))
     return moves
+
+
+def numbered_steps(moves):
+    """The steps of a machine whose states are the places that have moves, in their order."""
+    numbers = {place: number for number, place in enumerate(moves)}
+    return [(numbers[place], ask, numbers[after]) for place in moves for ask, after in moves[place]]

@@ -93,8 +93,7 @@ class PatternDuel:
 
 def ask_rows(pattern, length):
     """All tuples of at most `length` pairs that can be told in turn: shorter ones first, then ascending."""
-    if length < 0 or length > LONGEST_ROW:
-        raise BadCount(length)
+    check_count(length, LONGEST_ROW)
     start = pattern.now
     for count in range(length + 1):
         yield from rows_from(pattern, start, count)
@@ -108,6 +107,12 @@ def rows_from(pattern, state, count):
     for pair in pattern.pairs_at(state):
         for rest in rows_from(pattern, pair[1], count - 1):
             yield (pair, *rest)
+
+
+def check_count(count, most):
+    """Raise an error if a count is not from 0 to `most`."""
+    if count < 0 or count > most:
+        raise BadCount(count)
 
 
 def check_size(size):

@@ -6,6 +6,8 @@ import pathlib
 import re
 import unittest
 
+from askshanded.crowds import WORD
+
 PACKAGE = pathlib.Path(__file__).resolve().parent.parent / "askshanded"
 FILES = sorted(PACKAGE.rglob("*.py"))
 ALLOWED = set(
@@ -82,9 +84,49 @@ class LanguageTest(unittest.TestCase):
         for place, node in nodes(ast.Constant):
             self.assertNotIsInstance(node.value, float, place)
 
+    def test_a_kept_range_is_not_passed_on(self):
+        for place, function in nodes(ast.FunctionDef):
+            kept = {
+                node.targets[0].id for node in ast.walk(function)
+                if isinstance(node, ast.Assign) and isinstance(node.targets[0], ast.Name)
+                and isinstance(node.value, ast.Call) and ast.unparse(node.value.func) == "range"
+            }
+            for call in [node for node in ast.walk(function) if isinstance(node, ast.Call)]:
+                passed = {argument.id for argument in call.args if isinstance(argument, ast.Name)}
+                if ast.unparse(call.func) not in ("list", "tuple", "len", "sum", "sorted", "enumerate", "zip"):
+                    self.assertEqual(kept & passed, set(), place)
+
+    def test_no_name_is_a_method_and_an_attribute(self):
+        methods, attributes = set(), set()
+        for _, node in nodes(ast.ClassDef):
+            methods |= {part.name for part in node.body if isinstance(part, ast.FunctionDef)}
+            attributes |= {part.attr for part in ast.walk(node)
+                           if isinstance(part, ast.Attribute) and isinstance(part.ctx, ast.Store)}
+        self.assertEqual(methods & attributes, set())
+
+    def test_no_local_name_is_an_import_or_a_class_of_its_file(self):
+        for path, text in texts():
+            tree = ast.parse(text)
+            bound = {name.name for node in tree.body if isinstance(node, ast.ImportFrom) for name in node.names}
+            bound |= {node.name for node in tree.body if isinstance(node, ast.ClassDef)}
+            stored = {node.id for node in ast.walk(tree) if isinstance(node, ast.Name) and isinstance(node.ctx, ast.Store)}
+            stored |= {node.arg for node in ast.walk(tree) if isinstance(node, ast.arg)}
+            self.assertEqual(bound & stored, set(), path.name)
+
+    def test_strings(self):
+        for place, node in nodes(ast.Constant):
+            if isinstance(node.value, str):
+                self.assertNotIn("%", node.value, place)
+                self.assertFalse(node.value.endswith(("._", ".__")), place)
+
+    def test_no_integer_has_more_than_900_digits(self):
+        self.assertLess(len(str(1 << WORD)), 900)
+
     def test_sorted_takes_what_is_plainly_strings_or_numbers(self):
         for place, node in nodes(ast.Call):
             if isinstance(node.func, ast.Name) and node.func.id in ("sorted", "min", "max"):
+                if len(node.args) == 2 and isinstance(node.args[0], ast.Constant):
+                    continue
                 self.assertIsInstance(node.args[0], ast.ListComp, place)
                 self.assertIn(ast.unparse(node.args[0].elt).split("(")[0], ("str", "int", "len"), place)
 
