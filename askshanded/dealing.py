@@ -113,7 +113,8 @@ def beat(game, dealer):
     came = {place: None for place in fresh}
     while fresh:
         found = []
-        for place in fresh:
+        # `found` is what `fresh` names next: a copy is walked, as no loop here changes what it walks.
+        for place in list(fresh):
             moves = None if game.is_bad(place) else dealt_moves(game, dealer, place)
             if moves is None:
                 return way_to(game, came, place)
