@@ -104,17 +104,19 @@ def layers(tree):
     layer = 0
     trees = {tree.standing: tree}
     while trees:
-        below = {}
         for standing in trees:
             if trees[standing].deed == "ask":
                 ask, way = trees[standing].step
                 behind = numbers.setdefault((layer + 1, way), len(numbers))
                 steps.append((numbers[layer, standing[0]], ask, behind))
-            for _, _, branch in trees[standing]:
-                below[branch.standing] = branch
-        trees = below
+        trees = trees_below(trees)
         layer = layer + 1
     return list(numbers), steps
+
+
+def trees_below(trees):
+    """The trees of the branches of some trees, by their standings."""
+    return {branch.standing: branch for standing in trees for _, _, branch in trees[standing]}
 
 
 def exchange(table, newer, *, mapping, number=None):
